@@ -1,0 +1,1 @@
+"""Things written by words, and read back."""

@@ -1,0 +1,143 @@
+"""The rules of ../shared/LANGUAGE.md that can be looked at row by row; the others are kept by hand."""
+
+import ast
+import re
+import unittest
+from pathlib import Path
+
+FOLDER = Path(__file__).resolve().parent.parent / "formatwords"
+FILES = sorted(FOLDER.glob("*.py"))
+
+BUILTINS = set(
+    "len range enumerate zip min max sum abs sorted reversed int str bool bytes list tuple dict set frozenset "
+    "isinstance ord repr any all divmod super property staticmethod classmethod Exception ValueError TypeError "
+    "KeyError IndexError LookupError ZeroDivisionError ArithmeticError OverflowError RuntimeError "
+    "NotImplementedError AttributeError StopIteration NotImplemented".split())
+METHODS = set("__init__ __eq__ __repr__ __str__ __len__ __enter__ __exit__ __call__ __iter__".split())
+WORDS = set(
+    "type typing typing_extensions enum Enum IntEnum StrEnum Flag IntFlag Generic Protocol ABC ABCMeta namedtuple "
+    "NamedTuple TypedDict TYPE_CHECKING abstractmethod".split())
+NAMES = set(
+    "register mro elements open input version_info with_traceback add_note attrgetter breakpoint builtins compile "
+    "copyright credits delattr dir eval exec exit gc getattr globals hasattr help id importlib license locals "
+    "methodcaller os quit setattr type vars sys".split())
+STATEMENTS = (ast.Global, ast.AsyncFunctionDef, ast.AsyncFor, ast.AsyncWith, ast.Await, ast.Import)
+
+
+def trees():
+    return [(path, ast.parse(path.read_text())) for path in FILES]
+
+
+def nodes():
+    return [(f"{path.name}:{getattr(node, 'lineno', 0)}", node) for path, tree in trees() for node in ast.walk(tree)]
+
+
+class TestLanguage(unittest.TestCase):
+    def test_files(self):
+        names = [path.name for path in FOLDER.iterdir() if path.name != "__pycache__"]
+        self.assertIn("__init__.py", names)
+        for name in names:
+            self.assertRegex(name, r"^[a-z_][a-z0-9_]*\.py$")
+        self.assertLessEqual(len(names), 100)
+
+    def test_rows(self):
+        for path in FILES:
+            rows = path.read_text().split("\n")
+            self.assertLessEqual(len(rows), 401, path.name)
+            for row in rows:
+                self.assertRegex(row, r"^[ -~]{0,120}$", path.name)
+
+    def test_words(self):
+        for path in FILES:
+            text = path.read_text()
+            self.assertEqual(set(re.findall(r"\w+", text)) & WORDS, set(), path.name)
+            self.assertNotRegex(text, "dataclass|overload|contextmanager")
+
+    def test_functions(self):
+        for where, node in nodes():
+            if isinstance(node, ast.FunctionDef):
+                self.assertLessEqual(node.end_lineno - node.lineno + 1, 40, where)
+                self.assertEqual(node.args.posonlyargs, [], where)
+                if node.name.startswith("__"):
+                    self.assertIn(node.name, METHODS, where)
+
+    def test_imports(self):
+        known = {}
+        for path, tree in trees():
+            known[path.stem] = set()
+            for node in ast.walk(tree):
+                if isinstance(node, ast.ImportFrom):
+                    self.assertEqual(node.level, 0, path.name)
+                    self.assertRegex(node.module, r"^formatwords\.[a-z]+$", path.name)
+                    known[path.stem].add(node.module.split(".")[1])
+        while known:
+            free = [name for name in known if not known[name] & set(known)]
+            self.assertNotEqual(free, [], f"imports in a ring: {sorted(known)}")
+            known = {name: known[name] for name in known if name not in free}
+
+    def test_names(self):
+        for where, node in nodes():
+            for name in [getattr(node, field, None) for field in ("id", "arg", "attr", "name")]:
+                if isinstance(name, str):
+                    self.assertNotIn(name, NAMES, where)
+                    self.assertTrue(not name.startswith("_") or name in METHODS, where)
+
+    def test_names_are_not_those_of_builtins(self):
+        for where, node in nodes():
+            name = node.arg if isinstance(node, ast.arg) else None
+            if isinstance(node, ast.Name) and isinstance(node.ctx, ast.Store):
+                name = node.id
+            if name is not None:
+                self.assertNotIn(name, dir(__builtins__) if not isinstance(__builtins__, dict) else __builtins__, where)
+
+    def test_builtins(self):
+        known = dir(__builtins__) if not isinstance(__builtins__, dict) else list(__builtins__)
+        for where, node in nodes():
+            if isinstance(node, ast.Name) and node.id in known:
+                self.assertIn(node.id, BUILTINS, where)
+
+    def test_statements_and_values(self):
+        for where, node in nodes():
+            self.assertNotIsInstance(node, STATEMENTS, where)
+            if isinstance(node, ast.Constant):
+                self.assertNotIsInstance(node.value, (float, complex), where)
+                if isinstance(node.value, str):
+                    self.assertNotIn("%", node.value, where)
+            if isinstance(node, ast.BinOp):
+                self.assertNotIsInstance(node.op, (ast.Div, ast.MatMult), where)
+                if isinstance(node.op, ast.Pow):
+                    self.assertIsInstance(node.right, ast.Constant, where)
+
+    def test_is(self):
+        for where, node in nodes():
+            if isinstance(node, ast.Compare):
+                for sign, other in zip(node.ops, node.comparators):
+                    if isinstance(sign, (ast.Is, ast.IsNot)):
+                        self.assertTrue(isinstance(other, ast.Constant) and other.value in (None, True, False), where)
+
+    def test_no_method_is_an_attribute(self):
+        methods, attributes = set(), set()
+        for where, node in nodes():
+            if isinstance(node, ast.ClassDef):
+                methods |= {part.name for part in node.body if isinstance(part, ast.FunctionDef)}
+            if isinstance(node, ast.Attribute) and isinstance(node.ctx, ast.Store):
+                attributes.add(node.attr)
+        self.assertEqual(methods & attributes, set())
+
+    def test_generators(self):
+        # Where a class has __eq__, any, all, min, max, sum and sorted take a list.
+        for where, node in nodes():
+            if isinstance(node, ast.Call) and isinstance(node.func, ast.Name):
+                if node.func.id in ("any", "all", "min", "max", "sum", "sorted"):
+                    self.assertNotIsInstance(node.args[0], ast.GeneratorExp, where)
+
+    def test_text_methods_assign_nothing(self):
+        for where, node in nodes():
+            if isinstance(node, ast.FunctionDef) and node.name in ("__eq__", "__str__", "__repr__", "__len__"):
+                for part in ast.walk(node):
+                    self.assertNotIsInstance(part, (ast.Assign, ast.AugAssign, ast.Delete), where)
+                self.assertIsInstance(node.body[-1], ast.Return, where)
+
+
+if __name__ == "__main__":
+    unittest.main()
