@@ -16,6 +16,12 @@ def digits_of(number, *, base=TEN):
     return "".join(digits[::-1])
 
 
+def signed_digits(number):
+    """A whole number by figures, a minus ahead of one below 0."""
+    # Not by str, which refuses numbers of some thousand figures, such as great exponents lead to.
+    return ("-" if number < 0 else "") + digits_of(abs(number))
+
+
 def number_of(text, *, base=TEN):
     """The whole number that has these digits, noughts ahead let by; NoDigits of all else."""
     if not isinstance(text, str) or text == "":

@@ -1,6 +1,6 @@
 """Ranges of fractions, and those that are rounded to a whole number."""
 
-from formatwords.digits import digits_of
+from formatwords.digits import signed_digits
 from formatwords.errors import NoRange
 from formatwords.fractions import HALF, fraction, is_below, one_way
 
@@ -57,9 +57,7 @@ def end_text(end):
     if end is None:
         return ".."
     top, bottom = end
-    # Not by str, which refuses numbers of some thousand figures, such as ends have by great exponents.
-    text = ("-" if top < 0 else "") + digits_of(abs(top))
-    return text if bottom == 1 else text + "/" + digits_of(bottom)
+    return signed_digits(top) if bottom == 1 else f"{signed_digits(top)}/{signed_digits(bottom)}"
 
 
 def begins_ahead(one, other):

@@ -57,3 +57,61 @@ def signature_of(action):
         default = "none" if one.default is Parameter.empty else one.default
         rows.append((one.name, one.kind == Parameter.KEYWORD_ONLY, default))
     return rows
+
+
+def digits_by(number, base):
+    """The digits of a whole number from 0 on."""
+    text = ""
+    while number or not text:
+        text = "0123456789abcdefghijklmnopqrstuvwxyz"[number % base] + text
+        number //= base
+    return text
+
+
+def numeral_by(word, number):
+    """The numeral of a number, by the words of [30] and [31]; fractions are Python's."""
+    if word.kind == "whole":
+        return number
+    base = Fraction(word.base)
+    if word.kind == "fixed":
+        return rounded_by(number * base ** word.places, word.mode)
+    if number == 0:
+        return 0, 0
+    e = 0
+    while base ** e > abs(number):
+        e -= word.step
+    while base ** (e + word.step) <= abs(number):
+        e += word.step
+    n = rounded_by(number * base ** word.places / base ** e, word.mode)
+    if abs(n) >= base ** (word.step + word.places):
+        return (1 if number > 0 else -1) * word.base ** word.places, e + word.step
+    return n, e
+
+
+def row_by(word, number):
+    """The row of a number, by the words of [30] to [33]; fractions are Python's."""
+    numeral = numeral_by(word, number)
+    n = numeral[0] if word.kind == "power" else numeral
+    text = digits_by(abs(n), word.base)
+    while len(text) < word.places + 1:
+        text = "0" + text
+    ahead, behind = (text[:-word.places], "." + text[-word.places:]) if word.places else (text, "")
+    if word.group:
+        parts = []
+        while ahead:
+            parts.insert(0, ahead[-word.group[1]:])
+            ahead = ahead[:-word.group[1]]
+        ahead = word.group[0].join(parts)
+    text = ahead + behind
+    if word.kind == "power":
+        text += f"@{numeral[1]}"
+    below = n < 0
+    first = {"minus": "-" if below else "", "plus": "-" if below else "+", "blank": "-" if below else " ",
+             "brackets": "(" if below else "", "behind": ""}[word.sign]
+    last = {"brackets": ")", "behind": "-"}.get(word.sign, "") if below else ""
+    first += f"{word.base}#" if word.mark else ""
+    fills = word.fill * (word.width - len(first + text + last))
+    half = len(fills) // 2
+    return {"left": first + text + last + fills, "right": fills + first + text + last,
+            "middle": fills[:half] + first + text + last + fills[half:],
+            "inner": first + fills + text + last}[word.side]

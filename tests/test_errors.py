@@ -81,12 +81,13 @@ class TestRefusals(unittest.TestCase):
     def test_what_is_kept_is_a_copy(self):
         ring = ["a", "b", "a"]
         thing = {"a": [1, ([2],)]}
-        refusals = [errors.Ring(ring), errors.NoThing(thing), errors.NoAsk(thing), errors.Unkept("a", "b", "", 1, thing)]
+        unkept = errors.Unkept("a", "b", "", thing, thing)
+        refusals = [errors.Ring(ring), errors.NoThing(thing), errors.NoAsk(thing)]
         ring.append("c")
         thing["a"][1][0].append(3)
         thing["b"] = 4
         self.assertEqual(refusals[0].ring, ["a", "b", "a"])
-        for told in (refusals[1].thing, refusals[2].row, refusals[3].two):
+        for told in (refusals[1].thing, refusals[2].row, unkept.one, unkept.two):
             self.assertEqual(told, {"a": [1, ([2],)]})
 
 

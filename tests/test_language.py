@@ -1,6 +1,7 @@
 """The rules of ../shared/LANGUAGE.md that can be looked at row by row; the others are kept by hand."""
 
 import ast
+import builtins
 import re
 import unittest
 from pathlib import Path
@@ -88,12 +89,41 @@ class TestLanguage(unittest.TestCase):
             if isinstance(node, ast.Name) and isinstance(node.ctx, ast.Store):
                 name = node.id
             if name is not None:
-                self.assertNotIn(name, dir(__builtins__) if not isinstance(__builtins__, dict) else __builtins__, where)
+                self.assertNotIn(name, dir(builtins), where)
+
+    def test_names_are_not_those_of_imports_and_classes(self):
+        for path, tree in trees():
+            taken = {node.name for node in tree.body if isinstance(node, ast.ClassDef)}
+            for node in tree.body:
+                if isinstance(node, ast.ImportFrom):
+                    taken |= {name.asname or name.name for name in node.names}
+            for node in ast.walk(tree):
+                if isinstance(node, ast.arg):
+                    self.assertNotIn(node.arg, taken, path.name)
+                if isinstance(node, ast.Name) and isinstance(node.ctx, ast.Store):
+                    self.assertNotIn(node.id, taken, path.name)
+
+    def test_each_import_names_the_file_that_defines_it(self):
+        defined = {}
+        for path, tree in trees():
+            defined[path.stem] = {node.name for node in tree.body if isinstance(node, (ast.FunctionDef, ast.ClassDef))}
+            for node in tree.body:
+                if isinstance(node, ast.Assign):
+                    defined[path.stem] |= {target.id for target in node.targets}
+        for where, node in nodes():
+            if isinstance(node, ast.ImportFrom):
+                self.assertLessEqual({name.name for name in node.names}, defined[node.module.split(".")[1]], where)
+
+    def test_each_import_is_used(self):
+        for path, tree in trees():
+            used = {node.id for node in ast.walk(tree) if isinstance(node, ast.Name)}
+            for node in tree.body:
+                if isinstance(node, ast.ImportFrom):
+                    self.assertLessEqual({name.name for name in node.names}, used, path.name)
 
     def test_builtins(self):
-        known = dir(__builtins__) if not isinstance(__builtins__, dict) else list(__builtins__)
         for where, node in nodes():
-            if isinstance(node, ast.Name) and node.id in known:
+            if isinstance(node, ast.Name) and node.id in dir(builtins):
                 self.assertIn(node.id, BUILTINS, where)
 
     def test_statements_and_values(self):

@@ -53,7 +53,8 @@ class TestRange(unittest.TestCase):
 
     def test_without_end(self):
         for low_in, high_in in product((True, False), (True, False)):
-            self.assertEqual(fields(Range(None, (3, 1), low_in=low_in, high_in=high_in)), (None, (3, 1), False, high_in))
+            self.assertEqual(fields(Range(None, (3, 1), low_in=low_in, high_in=high_in)),
+                (None, (3, 1), False, high_in))
             self.assertEqual(fields(Range((3, 1), None, low_in=low_in, high_in=high_in)), ((3, 1), None, low_in, False))
             self.assertEqual(fields(Range(None, None, low_in=low_in, high_in=high_in)), (None, None, False, False))
         for one in (Range(None, None), Range(None, (1, 1)), Range((1, 1), None)):
