@@ -24,6 +24,21 @@ def is_sign(thing):
     return isinstance(thing, str) and len(thing) == 1 and thing in TEXT_SIGNS
 
 
+def is_text(thing):
+    """Whether this is a text: a text without signs is one, too."""
+    return isinstance(thing, str) and all([sign in TEXT_SIGNS for sign in thing])
+
+
+def is_signs(thing):
+    """Whether this is a text of one or more signs, rising, each once."""
+    return is_text(thing) and len(thing) > 0 and is_rising(thing)
+
+
+def is_rising(row):
+    """Whether of each two that stand side by side the second is the greater one."""
+    return all([one < other for one, other in zip(row, row[1:])])
+
+
 def power(base, exponent):
     """The base, so many times with itself; the exponent is from 0 on."""
     product = 1

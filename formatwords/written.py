@@ -21,13 +21,19 @@ def write(word, number):
 def row_of(word, numeral):
     """The row of all numbers that have this numeral."""
     whole = numeral[0] if word.kind == "power" else numeral
-    front, behind = surroundings(word, whole < 0)
     body = pointed(word, digits_of(abs(whole), base=word.base))
     if word.kind == "power":
         body = f"{body}@{signed_digits(numeral[1])}"
-    lack = max(0, word.width - len(front) - len(body) - len(behind))
+    ahead, behind = around(word, whole < 0, len(body))
+    return ahead + body + behind
+
+
+def around(word, below, count):
+    """All that stands ahead of so many signs and behind them, of a numeral that is below 0 or not."""
+    front, behind = surroundings(word, below)
+    lack = max(0, word.width - len(front) - count - len(behind))
     before, within, after = fill_counts(word.side, lack)
-    return word.fill * before + front + word.fill * within + body + behind + word.fill * after
+    return word.fill * before + front + word.fill * within, behind + word.fill * after
 
 
 def surroundings(word, below):

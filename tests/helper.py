@@ -2,10 +2,14 @@
 
 from fractions import Fraction
 from inspect import Parameter, signature
+from itertools import product
 from math import ceil, floor
 
 from formatwords.errors import NoDigits, NoRange
+from formatwords.joins import text_machine
+from formatwords.machines import Machine
 from formatwords.ranges import Range
+from formatwords.words import Word
 
 MODES = ("down", "up", "floor", "roof", "half", "even")
 
@@ -115,3 +119,41 @@ def row_by(word, number):
     return {"left": first + text + last + fills, "right": fills + first + text + last,
             "middle": fills[:half] + first + text + last + fills[half:],
             "inner": first + fills + text + last}[word.side]
+
+
+# Of anything: what is neither a Word, nor a Machine, nor a kind is among these, too.
+THINGS = NO_TEXTS + ["", "x", "no", "abc", "0", " ", "a" * 30, 2, 24, 25, [1, 2], (0, 1), (1, 2, 3), [(0, 1)],
+                     {"a": {"b": [()]}}, Word(), Machine(0, (), (), ()), text_machine("ab")]
+
+
+def drawn_word(draw, *, kind="whole", base=None):
+    """Some Word: its fills are often digits, its groups small."""
+    return Word(kind, base=base or draw.choice([2, 2, 3, 10, 16, 36]), width=draw.choice([0, 1, 2, 3, 4, 5, 6, 9, 24]),
+                fill=draw.choice(" 00112#-+,_9z("), side=draw.choice(["left", "right", "middle", "inner"]),
+                sign=draw.choice(["minus", "plus", "blank", "brackets", "behind"]), mark=draw.random() < 0.3,
+                group=draw.choice([None, None, (",", 1), ("_", 1), ("_", 2), ("'", 3), (",", 3), ("_", 3)]),
+                places=0 if kind == "whole" else draw.randint(0, 5))
+
+
+def drawn_machine(draw, *, signs="ab", most=4):
+    """Some Machine of few places."""
+    many = draw.randint(0, most)
+    steps = [(place, "".join(sorted(draw.sample(signs, draw.randint(1, len(signs))))), target)
+             for place in range(many) for target in range(many) if draw.random() < 0.35]
+    begins, ends = [tuple(sorted(draw.sample(range(many), draw.randint(0, many)))) for time in range(2)]
+    return Machine(many, begins, tuple(sorted(steps)), ends)
+
+
+def texts_of(signs, most):
+    """All texts of these signs up to so many, shorter ones first, then as texts are."""
+    return ["".join(row) for count in range(most + 1) for row in product(sorted(signs), repeat=count)]
+
+
+def runs_by(machine, text):
+    """How many runs a text has, each gone through, by the words of [60]."""
+    def onward(place, rest):
+        if not rest:
+            return int(place in machine.ends)
+        return sum(onward(target, rest[1:]) for begin, signs, target in machine.steps
+                   if begin == place and rest[0] in signs)
+    return sum(onward(place, text) for place in machine.begins)

@@ -22,6 +22,12 @@ NAMES = set(
     "register mro elements open input version_info with_traceback add_note attrgetter breakpoint builtins compile "
     "copyright credits delattr dir eval exec exit gc getattr globals hasattr help id importlib license locals "
     "methodcaller os quit setattr type vars sys".split())
+VALUE_METHODS = set(
+    "append clear copy count endswith extend find get index insert isalnum isalpha isdigit islower isspace isupper "
+    "items join keys ljust lower lstrip partition pop remove replace reverse rfind rjust rpartition rsplit rstrip "
+    "setdefault split splitlines startswith strip update upper values zfill bit_length title capitalize swapcase "
+    "casefold center expandtabs removeprefix removesuffix rindex isascii isdecimal isnumeric istitle isidentifier "
+    "isprintable add discard".split())
 STATEMENTS = (ast.Global, ast.AsyncFunctionDef, ast.AsyncFor, ast.AsyncWith, ast.Await, ast.Import)
 
 
@@ -153,6 +159,33 @@ class TestLanguage(unittest.TestCase):
             if isinstance(node, ast.Attribute) and isinstance(node.ctx, ast.Store):
                 attributes.add(node.attr)
         self.assertEqual(methods & attributes, set())
+
+    def test_methods_that_are_called(self):
+        own = {part.name for where, node in nodes() if isinstance(node, ast.ClassDef) for part in node.body
+               if isinstance(part, ast.FunctionDef)}
+        for where, node in nodes():
+            if isinstance(node, ast.Call) and isinstance(node.func, ast.Attribute):
+                self.assertIn(node.func.attr, VALUE_METHODS | own, where)
+                if node.func.attr not in own:
+                    self.assertEqual(node.keywords, [], where)
+
+    def test_lambdas(self):
+        rows = [f"{where} {ast.dump(node.args)}" for where, node in nodes() if isinstance(node, ast.Lambda)]
+        self.assertEqual(len(rows), len(set(rows)))
+
+    def test_lengths(self):
+        for where, node in nodes():
+            if isinstance(node, ast.FunctionDef) and node.name == "__len__":
+                for part in ast.walk(node):
+                    if isinstance(part, ast.Return):
+                        self.assertEqual(getattr(getattr(part.value, "func", None), "id", None), "len", where)
+
+    def test_errors_are_made_on_the_spot(self):
+        known = {part.name for path, tree in trees() if path.stem == "errors" for part in tree.body
+                 if isinstance(part, ast.ClassDef)}
+        for where, node in nodes():
+            if isinstance(node, ast.Raise):
+                self.assertTrue(isinstance(node.exc, ast.Call) and node.exc.func.id in known, where)
 
     def test_generators(self):
         # Where a class has __eq__, any, all, min, max, sum and sorted take a list.
