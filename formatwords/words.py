@@ -61,6 +61,12 @@ class Word:
         return f"Word({str(self)})"
 
 
+def widened(word, width):
+    """The Word with this width in place of its own."""
+    return Word(word.kind, base=word.base, width=width, fill=word.fill, side=word.side, sign=word.sign, mark=word.mark,
+                group=word.group, places=word.places, mode=word.mode, step=word.step)
+
+
 def first_wrong(word):
     """The name of the first field that is not right in itself, or None."""
     looks = [

@@ -5,60 +5,11 @@ import unittest
 
 from formatwords.deciding import apart, clear
 from formatwords.machines import Machine
-from tests.helper import drawn_machine, runs_by, signature_of, texts_of
+from tests.helper import drawn_machine, is_apart_paper, is_clear_paper, runs_by, signature_of, texts_of
 
 TEXTS = texts_of("ab", 6)
 VOID = [Machine(0, (), (), ()), Machine(2, (), ((0, "a", 1),), (1,)), Machine(2, (0,), ((0, "a", 1),), ())]
 DEAD = Machine(4, (0,), ((0, "a", 1), (0, "a", 2), (1, "b", 3)), (3,))
-
-
-def common(signs, others):
-    return set(signs) & set(others)
-
-
-def come_to(machine):
-    seen = list(machine.begins)
-    for place in seen:
-        seen.extend({to for at, signs, to in machine.steps if at == place} - set(seen))
-    return seen
-
-
-def is_clear_paper(machine, paper):
-    """Whether a paper keeps each row of [70]."""
-    if type(paper) is not list:
-        return False
-    for pair in paper:
-        if type(pair) is not tuple or len(pair) != 2 or [type(place) for place in pair] != [int, int]:
-            return False
-        if not 0 <= pair[0] <= pair[1] < machine.many or pair[0] in machine.ends and pair[1] in machine.ends:
-            return False
-    needed = [(one, other) for one in machine.begins for other in machine.begins if one != other]
-    for place in come_to(machine):
-        steps = [step for step in machine.steps if step[0] == place]
-        needed += [(one[2], other[2]) for one in steps for other in steps
-                   if one != other and common(one[1], other[1])]
-    for pair in paper:
-        needed += [(one[2], other[2]) for one in machine.steps if one[0] == pair[0]
-                   for other in machine.steps if other[0] == pair[1] and common(one[1], other[1])]
-    return {tuple(sorted(pair)) for pair in needed} <= set(paper)
-
-
-def is_apart_paper(first, second, paper):
-    """Whether a paper keeps each row of [71]."""
-    if type(paper) is not list:
-        return False
-    for pair in paper:
-        if type(pair) is not tuple or len(pair) != 2 or [type(place) for place in pair] != [int, int]:
-            return False
-        if not (0 <= pair[0] < first.many and 0 <= pair[1] < second.many):
-            return False
-        if pair[0] in first.ends and pair[1] in second.ends:
-            return False
-    needed = [(one, other) for one in first.begins for other in second.begins]
-    for pair in paper:
-        needed += [(one[2], other[2]) for one in first.steps if one[0] == pair[0]
-                   for other in second.steps if other[0] == pair[1] and common(one[1], other[1])]
-    return set(needed) <= set(paper)
 
 
 class TestClear(unittest.TestCase):
