@@ -54,10 +54,13 @@ def places_of(places, numbers):
 
 def then(machines):
     """A Machine of which a text has, for each way to part it among these in order, the product of their runs."""
-    joined = text_machine("")
-    for at, machine in enumerate(machines):
-        joined = machine if at == 0 else then_one(joined, machine)
-    return joined
+    if len(machines) == 0:
+        return text_machine("")
+    if len(machines) == 1:
+        return machines[0]
+    # By halves: one by one, the first ones would be gone through again for each that is put behind them.
+    half = len(machines) // 2
+    return then_one(then(machines[:half]), then(machines[half:]))
 
 
 def then_one(one, other):
@@ -144,10 +147,13 @@ def any_many(machine):
 
 def up_to(machine, most):
     """A Machine of none of this one, one, or more, up to so many."""
-    joined = text_machine("")
-    for count in range(most):
-        joined = perhaps(then_one(machine, joined))
-    return joined
+    if most == 0:
+        return text_machine("")
+    if most % 2 == 0:
+        return perhaps(then_one(machine, up_to(machine, most - 1)))
+    # Up to half of them, then none or as many as make up the rest: each count has one way.
+    half = most // 2
+    return then_one(up_to(machine, half), perhaps(then([machine] * (half + 1))))
 
 
 def both(one, other):

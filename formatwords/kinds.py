@@ -337,7 +337,7 @@ class Cases(Kind):
     def has(self, thing):
         """Whether this, whatever it is, is a tuple of one of its tags and a thing of this tag's kind."""
         return (
-            isinstance(thing, tuple) and len(thing) == 2 and isinstance(thing[0], str)
+            isinstance(thing, tuple) and len(thing) == 2
             and any([tag == thing[0] and kind.has(thing[1]) for tag, kind in self.cases])
         )
 

@@ -1,7 +1,7 @@
 """Words and modes held against each other: where they part."""
 
 from formatwords.digits import TEN
-from formatwords.fractions import common_measure, fraction, rounded
+from formatwords.fractions import fraction, rounded
 from formatwords.plain import power
 from formatwords.words import WIDEST
 from formatwords.written import write
@@ -58,10 +58,9 @@ def least_bottom(one, other, unit):
 
 def parting_top(one, other, unit, bottom):
     """The top nearest to nought of a fraction of this bottom that is rounded unlike, or None."""
-    # Twice the bottom further on all is the same again: what is left over, and what is even.
+    # Twice the bottom further on all is the same again: what is left over, and what is even. What is not in lowest
+    # terms has a lesser bottom, of which none was found.
     for size in range(1, 2 * bottom + 1):
-        if common_measure(size, bottom) > 1:
-            continue
         for top in (size, -size):
             product = fraction(top * unit, bottom)
             if rounded(product, mode=one) != rounded(product, mode=other):
