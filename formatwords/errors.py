@@ -67,7 +67,7 @@ class NoName(KeyError):
     """A book does not have this name."""
 
     def __init__(self, name):
-        self.name = name
+        self.name = copied(name)
 
 
 class Taken(KeyError):
