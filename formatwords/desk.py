@@ -2,6 +2,7 @@
 
 from formatwords.asking import kind_clear, kind_counted, kinds_apart
 from formatwords.book import Book
+from formatwords.deeds import DEEDS
 from formatwords.digits import signed_digits
 from formatwords.errors import NoAsk
 from formatwords.kindlooks import is_book_name
@@ -9,15 +10,8 @@ from formatwords.kindtexts import read_kind
 from formatwords.packing import packed, unpacked, whole_of
 from formatwords.reading import fault, read_one, turned
 
-# What stands behind the first word of each row.
+# What stands behind the first word of each row that is no deed.
 ROWS = {
-    "define": ("name", "kind"),
-    "change": ("name", "kind"),
-    "drop": ("name",),
-    "rename": ("name", "name"),
-    "keep": ("name",),
-    "apart": ("name", "name"),
-    "free": ("name",),
     "clear": ("name",),
     "meet": ("name", "name"),
     "fault": ("name", "text"),
@@ -29,7 +23,6 @@ ROWS = {
     "log": (),
     "names": (),
 }
-DEED_WORDS = ("define", "change", "drop", "rename", "keep", "apart", "free")
 ASKING_WORDS = ("clear", "meet", "fault", "many", "turn", "put")
 MOST_FIGURES = 9
 NOTHING = "-"
@@ -47,7 +40,7 @@ class Desk:
         if not isinstance(row, str):
             raise NoAsk(row)
         word, parts = parts_of(row)
-        if word in DEED_WORDS:
+        if word in DEEDS:
             if word in ("define", "change"):
                 parts = [parts[0], read_kind(parts[1])]
             self.book.do((word, *parts))
@@ -90,17 +83,18 @@ def listed(parts):
 def parts_of(row):
     """The first word of a row, and what stands behind it as names, numbers and texts; NoAsk where it is no such row."""
     word, blank, rest = row.partition(" ")
-    if word not in ROWS:
+    if word not in DEEDS and word not in ROWS:
         raise NoAsk(row)
+    slots = DEEDS[word] if word in DEEDS else ROWS[word]
     words = rest.split(" ") if blank != "" else []
-    if "kind" in ROWS[word]:
+    if "kind" in slots:
         # A kind's text is all that is left: what is wrong in it is told by those who read it.
         name, blank, text = rest.partition(" ")
         words = [name, text] if blank != "" else []
-    if len(words) != len(ROWS[word]):
+    if len(words) != len(slots):
         raise NoAsk(row)
     parts = []
-    for slot, one in zip(ROWS[word], words):
+    for slot, one in zip(slots, words):
         values = values_of(slot, one)
         if len(values) == 0:
             raise NoAsk(row)

@@ -14,9 +14,9 @@ from formatwords.walks import mask_of
 from formatwords.words import Word
 
 # Texts of more than four hundred signs are not promised; so far signs and things are counted all the same.
-MOST_SIGNS = 5000
+MOST_SIGNS = 10000
 LEAST_THINGS = 500
-MOST_ROOM = 20000
+MOST_ROOM = 100000
 
 
 def kind_net(kind):

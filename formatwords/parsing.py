@@ -151,10 +151,10 @@ class RecordReader:
         number, at, fixed = state
         if number == len(self.form.pieces):
             return [((number, at, at, -1), None)] if at == len(self.text) else []
-        found = []
         name = self.form.needs[number]
         if name is None:
             return [((number, at, end, -1), (number + 1, end, fixed)) for end in self.ends_of(number, at, -1)]
+        found = []
         place = self.others.index(name)
         for width in self.form.choices[name] if fixed[place] < 0 else [fixed[place]]:
             further = (*fixed[:place], width, *fixed[place + 1:])

@@ -95,7 +95,7 @@ def merged(net):
     moved = []
     for number in range(len(rows)):
         row = [(mask, first[target] + level) for target, level, mask in rows[number]]
-        moved.extend([list(row) for copy in range(first[number + 1] - first[number])])
+        moved.extend([list(row) for time in range(first[number + 1] - first[number])])
     ends = sorted({classes[place] for place in net.ends})
     return trimmed(Net(
         [first[target] + level for target, level, mask in begins], moved,
@@ -119,12 +119,7 @@ def layers_of(row, classes):
     """The moves by classes, rising, as tuples (class, level, mask): the signs that have more than level such moves."""
     layers = {}
     for mask, target in row:
-        found = layers.setdefault(classes[target], [])
-        for level, other in enumerate(list(found)):
-            found[level] = other | mask
-            mask &= other
-        if mask != 0:
-            found.append(mask)
+        layers[classes[target]] = put_layer(layers.get(classes[target], ()), mask)
     return tuple([(target, level, mask) for target in sorted(layers) for level, mask in enumerate(layers[target])])
 
 

@@ -1,5 +1,6 @@
 """Ways to part a text in rows."""
 
+from formatwords.plain import TEXT_SIGNS
 from formatwords.walks import mask_of
 
 ENOUGH = 2
@@ -10,7 +11,7 @@ class RowEnds:
 
     def __init__(self, net, text):
         self.net = net
-        self.masks = [mask_of(sign) for sign in text]
+        self.masks = [mask_of(sign) if sign in TEXT_SIGNS else 0 for sign in text]
         self.last = {place: True for place in net.ends}
         self.known = {}
 

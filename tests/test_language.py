@@ -194,6 +194,58 @@ class TestLanguage(unittest.TestCase):
                 if node.func.id in ("any", "all", "min", "max", "sum", "sorted"):
                     self.assertNotIsInstance(node.args[0], ast.GeneratorExp, where)
 
+    def test_methods_are_called_where_they_stand(self):
+        own = {part.name for where, node in nodes() if isinstance(node, ast.ClassDef) for part in node.body
+               if isinstance(part, ast.FunctionDef)}
+        for path, tree in trees():
+            called = [node.func for node in ast.walk(tree) if isinstance(node, ast.Call)]
+            for node in ast.walk(tree):
+                if isinstance(node, ast.Attribute) and isinstance(node.ctx, ast.Load) and node not in called:
+                    self.assertNotIn(node.attr, own, f"{path.name}:{node.lineno}")
+
+    def test_attributes_that_are_read_are_assigned(self):
+        assigned = {node.attr for where, node in nodes() if isinstance(node, ast.Attribute)
+                    and isinstance(node.ctx, ast.Store)}
+        for path, tree in trees():
+            called = [node.func for node in ast.walk(tree) if isinstance(node, ast.Call)]
+            for node in ast.walk(tree):
+                if isinstance(node, ast.Attribute) and isinstance(node.ctx, ast.Load) and node not in called:
+                    self.assertIn(node.attr, assigned, f"{path.name}:{node.lineno}")
+
+    def test_stars_in_calls(self):
+        for where, node in nodes():
+            if isinstance(node, ast.Call):
+                for part in node.args:
+                    if isinstance(part, ast.Starred):
+                        self.assertIsInstance(part.value, (ast.Name, ast.Attribute), where)
+
+    def test_sets_are_not_stored(self):
+        for path, tree in trees():
+            within = [part for node in ast.walk(tree) if isinstance(node, ast.Call) and isinstance(node.func, ast.Name)
+                      and node.func.id in ("sorted", "len") for part in node.args]
+            for node in ast.walk(tree):
+                if isinstance(node, (ast.Set, ast.SetComp)):
+                    self.assertIn(node, within, f"{path.name}:{node.lineno}")
+
+    def test_no_loop_changes_what_it_goes_through(self):
+        changing = ("append", "extend", "insert", "pop", "remove", "reverse", "clear", "update", "setdefault")
+        for where, node in nodes():
+            if isinstance(node, ast.For):
+                through = ast.dump(node.iter)
+                for part in ast.walk(node):
+                    if isinstance(part, ast.Call) and isinstance(part.func, ast.Attribute) and part.func.attr in changing:
+                        self.assertNotEqual(ast.dump(part.func.value), through, where)
+                    if isinstance(part, ast.Subscript) and not isinstance(part.ctx, ast.Load):
+                        self.assertNotEqual(ast.dump(part.value).replace("Store()", "Load()"), through, where)
+
+    def test_values_of_modules(self):
+        for path, tree in trees():
+            for node in tree.body:
+                self.assertIsInstance(node, (ast.Expr, ast.ImportFrom, ast.FunctionDef, ast.ClassDef, ast.Assign), path.name)
+                if isinstance(node, ast.Assign):
+                    parts = [part for part in ast.walk(node.value) if isinstance(part, (ast.List, ast.Dict, ast.Call))]
+                    self.assertLessEqual(len(parts), 1, path.name)
+
     def test_text_methods_assign_nothing(self):
         for where, node in nodes():
             if isinstance(node, ast.FunctionDef) and node.name in ("__eq__", "__str__", "__repr__", "__len__"):

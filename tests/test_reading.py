@@ -182,6 +182,11 @@ class TestRead(unittest.TestCase):
                          "1,2,3,4": [[1, 2, 3, 4]], "******": [[]]})
         self.things(Padded(NUMBER, 3, fill="0", side="left"), {"100": [1, 10, 100], "10": [], "000": [0], "1000": [1000]})
 
+    def test_signs_that_no_text_has(self):
+        for text in ("1,\n2", chr(37), "\xe9", "1\n"):
+            self.things(Listing(NUMBER, ","), {text: []})
+            self.things(Record([("a", NUMBER), ("b", Text("ab"))]), {text: []})
+
     def test_named(self):
         self.things(Named("a"), {"": [], "a": []})
         self.things(Cases([("a", Named("a")), ("b", NUMBER)]), {"5": [("b", 5)], "": []})
