@@ -2,20 +2,20 @@
 
 from formatwords.digits import DIGITS, digits_of
 from formatwords.nets import either_net, explored
-from formatwords.settling import settled
+from formatwords.settling import merged, settled
+from formatwords.spans import shortened
 from formatwords.walks import mask_of
 
 
 def digits_net(base, count, spans, modulus):
     """A Net with one run for each number of these spans, of its digits, noughts ahead to so many."""
-    return settled(either_net([span_net(base, count, span, modulus) for span in spans]))
+    return settled(either_net([merged(span_net(base, count, span, modulus)) for span in spans]))
 
 
 def span_net(base, count, span, modulus):
     """A Net with one run for each number of one span, of its digits, noughts ahead to so many."""
     low, high, mask = span
-    if mask == (1 << modulus) - 1:
-        modulus, mask = 1, 1
+    mask, modulus = shortened(mask, modulus)
     reader = SpanReader(count, digits_of(low, base=base), None if high is None else digits_of(high, base=base))
     worths = [(mask_of(DIGITS[worth]), worth) for worth in range(base)]
 

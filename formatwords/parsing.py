@@ -13,17 +13,23 @@ from formatwords.ways import ENOUGH, RowEnds, two_ways
 from formatwords.written import fill_counts
 
 
-def things_of(kind, text):
-    """The things whose row this text is: all of them where these are two at most, else two."""
+def things_of(kind, text, nets, path):
+    """The things whose row this text is: all of them where these are two at most, else two.
+
+    In nets is kept what was made to read kinds within this one, by the path that leads to them: so it is made once.
+    """
     if isinstance(kind, Listing):
-        return lists_of(kind, text)
+        return lists_of(kind, text, nets, path)
     if isinstance(kind, Record):
-        return dicts_of(kind, text)
+        return dicts_of(kind, text, nets, path)
     if isinstance(kind, Padded):
         rows = unfilled(text, kind.width, kind.fill, kind.side)
-        return [thing for row in rows for thing in things_of(kind.kind, row)][:ENOUGH]
+        return [thing for row in rows for thing in things_of(kind.kind, row, nets, (*path, 0))][:ENOUGH]
     if isinstance(kind, Cases):
-        return [(tag, thing) for tag, one in kind.cases for thing in things_of(one, text)][:ENOUGH]
+        return [
+            (tag, thing) for at, (tag, one) in enumerate(kind.cases)
+            for thing in things_of(one, text, nets, (*path, at))
+        ][:ENOUGH]
     # Of what is left no thing is made of others: those that may be meant are few, and written once more.
     found = []
     for thing in possible_things(kind, text):
@@ -95,9 +101,11 @@ def possible_sizes(kind, text):
         return []
 
 
-def lists_of(kind, text):
+def lists_of(kind, text, nets, path):
     """The lists of a Listing whose row this text is, two at most."""
-    ends = RowEnds(kind_net(kind.kind), text)
+    if path not in nets:
+        nets[path] = kind_net(kind.kind)
+    ends = RowEnds(nets[path], text)
     bound = kind.least if kind.most is None else kind.most
 
     # A state is where a thing begins, and how many there are ahead of it, as far as that matters.
@@ -115,15 +123,17 @@ def lists_of(kind, text):
         return found
 
     def things(part):
-        return things_of(kind.kind, text[part[0]:part[1]])
+        return things_of(kind.kind, text[part[0]:part[1]], nets, (*path, 0))
 
     none = [[]] if text == "" and kind.least == 0 else []
     return (none + two_ways((0, 0), edges, things))[:ENOUGH]
 
 
-def dicts_of(kind, text):
+def dicts_of(kind, text, nets, path):
     """The dicts of a Record whose row this text is, two at most."""
-    reader = RecordReader(kind, text)
+    if path not in nets:
+        nets[path] = PieceNets(RecordForm(kind))
+    reader = RecordReader(text, nets, path)
     ways = two_ways(reader.begin, lambda state: reader.edges(state), lambda part: reader.things(part))
     dicts = [reader.dict_of(way) for way in ways]
     for name, widths in reader.form.spare:
@@ -138,10 +148,11 @@ class RecordReader:
     what it is, -1 as long as it may be any.
     """
 
-    def __init__(self, kind, text):
-        self.form = RecordForm(kind)
+    def __init__(self, text, nets, path):
+        self.form = nets[path].form
         self.text = text
-        self.nets = PieceNets(self.form)
+        self.nets = nets
+        self.path = path
         self.others = sorted(self.form.choices)
         self.begin = (0, 0, (-1,) * len(self.others))
         self.ends = {}
@@ -166,7 +177,7 @@ class RecordReader:
     def ends_of(self, number, at, width):
         """Where a piece may end that begins here."""
         if (number, width) not in self.ends:
-            net = self.nets.net_at(number, {self.form.needs[number]: width})
+            net = self.nets[self.path].net_at(number, {self.form.needs[number]: width})
             self.ends[(number, width)] = RowEnds(net, self.text)
         return self.ends[(number, width)].from_place(at)
 
@@ -177,10 +188,15 @@ class RecordReader:
             return [None]
         kind = self.form.pieces[number][1]
         if width < 0:
-            return things_of(kind, self.text[at:end])
+            return self.things_within(number, kind, self.text[at:end])
         if not self.form.is_wide(number):
             return [width]
-        return [(width, thing) for thing in things_of(kind.with_width(width), self.text[at:end])]
+        things = self.things_within(number, kind.with_width(width), self.text[at:end])
+        return [(width, thing) for thing in things]
+
+    def things_within(self, number, kind, text):
+        """The things of a field's kind whose row a text is."""
+        return things_of(kind, text, self.nets, (*self.path, number))
 
     def dict_of(self, way):
         """The dict of a list of such things."""

@@ -19,7 +19,7 @@ def fault(kind, text):
 def read(kind, text):
     """The things whose row a text is: all of them where these are two at most, else two unlike ones."""
     # Two things may have a part in common; told, each has its own.
-    return [copied(thing) for thing in things_of(kind, text)]
+    return [copied(thing) for thing in things_of(kind, text, {}, ())]
 
 
 def read_one(kind, text):

@@ -57,3 +57,12 @@ def magnitudes(spans, below, modulus):
 def turned_mask(mask, modulus):
     """The rests of the numbers times -1."""
     return sum([1 << -rest % modulus for rest in range(modulus) if mask >> rest & 1 == 1])
+
+
+def shortened(mask, modulus):
+    """The same rests by the least modulus that tells them."""
+    for period in range(1, modulus):
+        first = mask & ((1 << period) - 1)
+        if modulus % period == 0 and sum([first << at for at in range(0, modulus, period)]) == mask:
+            return first, period
+    return mask, modulus

@@ -7,7 +7,7 @@ from formatwords.asking import kind_clear, kinds_apart
 from formatwords.book import Book
 from formatwords.errors import Needed, NoDeed, NoName, NoThing, Ring, Taken, TooFar, Unkept
 from formatwords.kinds import Cases, Choice, Listing, Named, Number, Only, Padded, Record, Text
-from formatwords.logs import book_text
+from formatwords.logs import book_text, read_book
 from formatwords.words import Word
 from tests.helper import THINGS, refusal, signature_of
 
@@ -204,6 +204,25 @@ class TestRefusals(Held):
         self.refused(Needed, book, ("drop", "a"), name="a", by="d")
         book.do(("drop", "d"))
         book.do(("drop", "a"))
+
+    def test_needed_by_the_first_as_texts_are(self):
+        book = Book()
+        for name in ("z", "y", "aa", "m", "ab", "a"):
+            book.do(("define", name, NUMBER if name == "z" else Named("z")))
+        for name in ("a", "aa", "ab", "m", "y"):
+            self.refused(Needed, book, ("drop", "z"), name="z", by=name)
+            book.do(("drop", name))
+
+    def test_rings_by_ways_of_one_length(self):
+        names = [one + two for one in "pqr" for two in "abc"]
+        book = Book()
+        book.do(("define", "z", NUMBER))
+        for name in names[::-1]:
+            book.do(("define", name, Named("z")))
+        book.do(("define", "y", Cases([(name, Named(name)) for name in names[::2]])))
+        book.do(("define", "x", Cases([(name, Named(name)) for name in names[1::2]])))
+        for ends, ring in [("yx", ["pa", "z", "y", "pa"]), ("xy", ["pa", "z", "y", "pa"]), ("x", ["pb", "z", "x", "pb"])]:
+            self.refused(Ring, book, ("change", "z", Cases([(end, Named(end)) for end in ends])), ring=ring)
 
     def test_rings(self):
         book = book_of(a=NUMBER, b=Named("a"), c=Cases([("x", Named("b")), ("y", Named("a"))]), d=Listing(Named("c"), ","))
@@ -439,6 +458,12 @@ class TestBook(Held):
         self.assertEqual(one, other)
         other.do(("change", "b", NUMBER))
         self.assertNotEqual(one, other)
+        two = book_of(a=NUMBER, b=LETTERS, c=Only(1, "?"), d=Only(1, "!"))
+        two.do_all([("keep", "a"), ("apart", "a", "b"), ("keep", "c"), ("apart", "c", "d"), ("free", "c"), ("rename", "a", "z")])
+        three = book_of(z=NUMBER, b=LETTERS, c=Only(1, "?"), d=Only(1, "!"))
+        three.do_all([("apart", "b", "z"), ("keep", "z")])
+        self.assertEqual(two, three)
+        self.assertEqual(read_book(book_text(two)), three)
         for thing in THINGS + [NUMBER, None, {}, ["a", "b"], "a"]:
             self.assertFalse(Book() == thing)
         self.assertEqual(book_of(a=Choice([NUMBER])), book_of(a=Choice((NUMBER,))))

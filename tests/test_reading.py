@@ -156,6 +156,23 @@ class TestRead(unittest.TestCase):
                            "101": [], "10-1": [{"n": n, "m": -1, "w": 2, "v": 2} for n in (1, 10)],
                            "1234-1": [{"n": 1234, "m": -1, "w": w, "v": 2} for w in (2, 3)]})
 
+    def test_records_with_two_widths(self):
+        one, two = ("a", Number(Word(fill="*")), "v"), ("b", Number(Word(fill="0", side="left")), "w")
+        parts = [one, two, ("c", Number(Word(side="left")), "v"), ("d", Number(Word()), "w"), ("v", WIDTH), ("w", WIDTH)]
+        draw = random.Random(13)
+        for time in range(6):
+            draw.shuffle(parts)
+            pieces = [piece for part in parts for piece in (part, "|")]
+            pieces, unwritten = draw.choice([(pieces, []), ([piece for piece in pieces if piece[0] != "v"], [("v", WIDTH)])])
+            kind = Record(pieces, unwritten=unwritten)
+            for v, w in ((0, 0), (3, 5), (24, 2), (5, 24)):
+                thing = {"a": -7, "b": 12, "c": 345, "d": 6, "v": v, "w": w}
+                found = read(kind, kind.write(thing))
+                self.assertTrue(thing in found or len(found) == 2)
+                for told in found:
+                    self.assertEqual(kind.write(told), kind.write(thing))
+                    self.assertEqual([told["w"], told["d"], told["a"]], [w, 6, -7])
+
     def test_the_width_of_none(self):
         kind = Record(["x"], unwritten=[("v", Number(Word(), least=3, most=4)), ("w", Number(Word(), least=1, most=1))])
         self.things(kind, {"x": [{"v": 3, "w": 1}, {"v": 4, "w": 1}], "": []})
