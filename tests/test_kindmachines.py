@@ -198,6 +198,8 @@ class TestText(Held):
         self.texts(Text("ab", least=1, most=3), "abc", 5)
         self.texts(Text("ab", least=2, most=2), "abc", 4)
         self.texts(Text("ab", most=0), "ab", 2)
+        self.texts(Text(" a"), " a~", 4)
+        self.texts(Text(" a~", quote=" ", most=3), " a~", 5)
 
     def test_quotes(self):
         self.texts(Text("'a", quote="'"), "'ab", 6)
