@@ -13,9 +13,10 @@ from formatwords.spans import all_numbers, parted_spans
 from formatwords.walks import mask_of
 from formatwords.words import Word
 
-# Texts of more than four hundred signs are not promised; so far signs and things are counted all the same.
+# Texts of more than four hundred signs are not promised: what needs so many may need any number more. Counted exactly
+# are signs and things all the same, as long as there is room for that.
+FAR_ENOUGH = 500
 MOST_SIGNS = 10000
-LEAST_THINGS = 500
 MOST_ROOM = 100000
 
 
@@ -93,8 +94,7 @@ def common_multiple(numbers):
 
 def quoted_net(kind):
     """The Net of a Text's rows before they are filled."""
-    least = min(kind.least, MOST_SIGNS)
-    most = None if kind.most is None or kind.most > MOST_SIGNS else kind.most
+    least, most = counted_bounds(kind, MOST_SIGNS)
     quote = 0 if kind.quote is None else mask_of(kind.quote)
     plain = mask_of(kind.signs) & ~quote
     doubled = mask_of(kind.signs) & quote
@@ -112,6 +112,12 @@ def quoted_net(kind):
     return then_net([text_net(kind.quote), text, text_net(kind.quote)])
 
 
+def counted_bounds(kind, bound):
+    """The least and most of a kind where they are no more than a bound; beyond it others that do as well."""
+    least = FAR_ENOUGH if kind.least > bound else kind.least
+    return least, None if kind.most is None or kind.most > bound else kind.most
+
+
 def sizes_net(kind):
     """The Net of a Sizes."""
     nets = [kind_net(Number(Word(), least=0))]
@@ -124,9 +130,8 @@ def sizes_net(kind):
 def listing_net(kind):
     """The Net of a Listing."""
     net = kind_net(kind.kind)
-    bound = max(LEAST_THINGS, MOST_ROOM // (len(net.rows) + 1))
-    most = None if kind.most is None or kind.most > bound else kind.most
-    return again_net(net, kind.between, min(kind.least, bound), most)
+    least, most = counted_bounds(kind, max(FAR_ENOUGH, MOST_ROOM // (len(net.rows) + 1)))
+    return again_net(net, kind.between, least, most)
 
 
 def record_net(kind):
