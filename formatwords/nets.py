@@ -157,7 +157,7 @@ class String:
         for place in places:
             twins[place] = len(self.rows)
             self.rows.append([])
-        self.begins.extend([twins[place] for place in self.begins if place in twins])
+        self.begins = self.begins + [twins[place] for place in self.begins if place in twins]
         self.rows = with_twins(self.rows, twins)
         return [twins[place] for place in places]
 

@@ -1,5 +1,6 @@
-"""What several tests share: an oracle over Python's own fractions, and things of every kind."""
+"""What several tests share: an oracle over Python's own fractions, things of every kind, and kinds drawn at random."""
 
+from collections import Counter
 from fractions import Fraction
 from inspect import Parameter, signature
 from itertools import product
@@ -7,11 +8,15 @@ from math import ceil, floor
 
 from formatwords.errors import NoDigits, NoRange
 from formatwords.joins import text_machine
+from formatwords.kinds import Cases, Choice, Listing, Named, Number, Only, Padded, Record, Sizes, Text
 from formatwords.machines import Machine
 from formatwords.ranges import Range
 from formatwords.words import Word
 
 MODES = ("down", "up", "floor", "roof", "half", "even")
+SIDES = ["left", "right", "middle"]
+SIGNS = ["minus", "plus", "blank", "brackets", "behind"]
+WIDTH = Number(Word(), least=0, most=24)
 
 # What is no text: None, truths, whole numbers, lists, tuples, dicts, objects of the program.
 NO_TEXTS = [
@@ -208,3 +213,234 @@ def is_apart_paper(first, second, paper):
         needed += [(one[2], other[2]) for one in first.steps if one[0] == pair[0]
                    for other in second.steps if other[0] == pair[1] and common(one[1], other[1])]
     return set(needed) <= set(paper)
+
+
+def number_of_word(word, numeral):
+    """The number that has this numeral by a whole or fixed Word."""
+    if word.kind == "whole":
+        return numeral
+    return fraction_of(Fraction(numeral, word.base ** word.places))
+
+
+def short_things(kind, most):
+    """All things whose row has so many signs at most, as tuples (row, thing)."""
+    rows = {Number: short_numbers, Only: short_only, Choice: short_choices, Text: short_texts, Sizes: short_sizes,
+            Record: short_dicts, Listing: short_lists, Cases: short_cases, Padded: short_padded,
+            Named: lambda kind, most: []}[type(kind)](kind, most)
+    return [(row, thing) for row, thing in rows if len(row) <= most]
+
+
+def short_numbers(kind, most):
+    found = []
+    bound = kind.word.base ** most
+    low, high = [None if end is None else numeral_by(kind.word, Fraction(*end) if type(end) is tuple else end)
+                 for end in (kind.least, kind.most)]
+    for numeral in range(-bound if low is None else max(low, -bound), 1 + (bound if high is None else min(high, bound))):
+        thing = number_of_word(kind.word, numeral)
+        if kind.has(thing):
+            found.append((kind.write(thing), thing))
+    return found
+
+
+def short_only(kind, most):
+    return [(kind.row, kind.thing)]
+
+
+def short_choices(kind, most):
+    found = {}
+    for one in kind.kinds:
+        for row, thing in short_things(one, most):
+            found[thing] = kind.write(thing)
+    return [(found[thing], thing) for thing in found]
+
+
+def short_texts(kind, most):
+    texts = ["".join(row) for count in range(most + 1) for row in product(kind.signs, repeat=count)]
+    return [(kind.write(text), text) for text in texts if kind.has(text)]
+
+
+def short_sizes(kind, most):
+    least = len(kind.write(0)) - 1
+    bound = 10 ** max(0, most - least)
+    for size in kind.sizes:
+        bound *= size
+    return [(kind.write(number), number) for number in range(bound)] if most > least else []
+
+
+def short_lists(kind, most):
+    inner = short_things(kind.kind, most)
+    found = []
+    level = [("", [])]
+    many = 0
+    while level:
+        if many >= kind.least and (kind.most is None or many <= kind.most):
+            found.extend(level)
+        if many == kind.most:
+            break
+        between = kind.between if many else ""
+        level = [(row + between + more, things + [thing]) for row, things in level for more, thing in inner
+                 if len(row + between + more) <= most]
+        many += 1
+    return found
+
+
+def short_cases(kind, most):
+    return [(row, (tag, thing)) for tag, one in kind.cases for row, thing in short_things(one, most)]
+
+
+def short_padded(kind, most):
+    return [(kind.write(thing), thing) for row, thing in short_things(kind.kind, most)]
+
+
+def short_dicts(kind, most):
+    fields = [piece for piece in kind.pieces + kind.unwritten if isinstance(piece, tuple)]
+    told = {name: [number for number in range(25) if one.has(number)] for name, one in kind.unwritten}
+    others = {field[2] for field in fields if len(field) == 3}
+    for field in fields:
+        if field[0] in others:
+            told[field[0]] = [number for number in range(25) if field[1].has(number)]
+    found = []
+    names = sorted(told)
+    for widths in product(*[told[name] for name in names]):
+        fixed = dict(zip(names, widths))
+        level = [("", {name: fixed[name] for name in names})]
+        for piece in kind.pieces:
+            if isinstance(piece, str):
+                more = [(piece, None)]
+            elif len(piece) == 3:
+                word = Word(**{**vars(piece[1].word), "width": fixed[piece[2]]})
+                one = piece[1]
+                more = short_things(Number(word, least=one.least, most=one.most, rest=one.rest, ahead=one.ahead,
+                                           behind=one.behind), most)
+            elif piece[0] in fixed:
+                more = [(piece[1].write(fixed[piece[0]]), fixed[piece[0]])]
+            else:
+                more = short_things(piece[1], most)
+            level = [(row + other, thing if isinstance(piece, str) else {**thing, piece[0]: part})
+                     for row, thing in level for other, part in more if len(row + other) <= most]
+        found.extend(level)
+    return found
+
+
+def counts_of(kind, most):
+    """How many things have each row of so many signs at most."""
+    return Counter(row for row, thing in short_things(kind, most))
+
+
+def numbers_with(kind, row):
+    """All numbers that a Number writes so, taken out of the row wherever they may begin and end."""
+    word = kind.word
+    if not row.startswith(kind.ahead) or not row.endswith(kind.behind):
+        return []
+    core = row[len(kind.ahead):len(row) - len(kind.behind)]
+    # Longer than the width there are no fills: sign and mark have four signs ahead at most, one behind.
+    beside = len(core) if len(core) <= word.width else 5
+    found = []
+    for first in range(min(beside, len(core))):
+        for last in range(max(first + 1, len(core) - beside), len(core) + 1):
+            digits = core[first:last].replace(".", "")
+            if word.group is not None:
+                digits = digits.replace(word.group[0], "")
+            try:
+                numeral = int(digits, word.base) if digits.isalnum() and digits == digits.lower() else None
+            except ValueError:
+                continue
+            for one in ([] if numeral is None else [numeral, -numeral]):
+                thing = number_of_word(word, one)
+                if thing not in found and kind.has(thing) and kind.write(thing) == row:
+                    found.append(thing)
+    return found
+
+
+def drawn_number(draw, *, kind=None, base=None, places=None):
+    """Some Number, whose fills are often digits or signs."""
+    kind = kind or draw.choice(["whole", "whole", "fixed"])
+    base = base or draw.choice([2, 2, 3, 10])
+    word = Word(kind, base=base, width=draw.choice([0, 0, 1, 2, 3, 4, 5]), fill=draw.choice(" 00112#-+,(.)"),
+                side=draw.choice(SIDES + ["inner"]), sign=draw.choice(SIGNS),
+                mark=draw.random() < 0.15, group=draw.choice([None, None, (",", 1), ("_", 2), ("'", 3)]),
+                places=(draw.choice([0, 1, 2]) if places is None else places) if kind == "fixed" else 0)
+    low, high = sorted([draw.randint(-30, 30), draw.randint(-30, 30)])
+    least = draw.choice([None, low])
+    most = draw.choice([None, high])
+    by = draw.choice([1, 2, 3, 4, 5, 6])
+    return Number(word, least=None if least is None else number_of_word(word, least),
+                  most=None if most is None else number_of_word(word, most),
+                  rest=draw.choice([None, None, (draw.randrange(by), by)]),
+                  ahead=draw.choice(["", "", "", "1", "<"]), behind=draw.choice(["", "", "", "0", "-"]))
+
+
+def drawn_choice(draw):
+    """Some Choice, in which several may have a thing."""
+    kind = draw.choice(["whole", "fixed"])
+    base = draw.choice([2, 3, 10])
+    places = draw.choice([0, 1])
+    word = Word(kind, base=base, places=places if kind == "fixed" else 0)
+    kinds = []
+    for time in range(draw.randint(1, 4)):
+        if draw.random() < 0.4:
+            kinds.append(Only(number_of_word(word, draw.randint(-4, 4)), draw.choice(["1", "x", "-1", "10", "no"])))
+        else:
+            kinds.append(drawn_number(draw, kind=kind, base=base, places=places))
+    return Choice(kinds)
+
+
+def drawn_text(draw):
+    """Some Text, whose fill or quote may be among its signs."""
+    signs = "".join(sorted(draw.sample("ab',0", draw.randint(1, 2))))
+    least = draw.choice([0, 0, 1, 2])
+    return Text(signs, least=least, most=draw.choice([None, least, least + 2]), quote=draw.choice([None, None, "'", "a"]),
+                width=draw.choice([0, 0, 2, 3, 5]), fill=draw.choice(" ab',0"), side=draw.choice(SIDES))
+
+
+def drawn_sizes(draw):
+    """Some Sizes, with marks of figures, too."""
+    sizes = [draw.choice([2, 3, 10, 11, 60]) for time in range(draw.randint(1, 2))]
+    return Sizes(sizes, [draw.choice([":", "1", "d ", "0"]) for size in sizes])
+
+
+def drawn_width(draw):
+    """Some Number of widths, perhaps none."""
+    low, high = sorted([draw.randint(0, 5), draw.randint(0, 5)])
+    return Number(Word(width=draw.choice([0, 0, 2]), fill="0", sign=draw.choice(["minus", "plus"])), least=low, most=high,
+                  rest=draw.choice([None, None, (1, 2)]))
+
+
+def drawn_record(draw, depth):
+    """Some Record, with widths told by fields and by unwritten ones."""
+    pieces = []
+    unwritten = []
+    for name in draw.sample(["v", "w"], draw.choice([0, 0, 1, 1, 2])):
+        kind = drawn_width(draw)
+        if draw.random() < 0.5:
+            unwritten.append((name, kind))
+        else:
+            pieces.append((name, kind))
+        for time in range(draw.choice([0, 1, 1, 2])):
+            pieces.append(("n" + "ab"[time] + name, drawn_number(draw), name))
+    for time in range(draw.choice([0, 1, 1, 2])):
+        pieces.append(draw.choice([":", "1", "-", "ab", " "]))
+    for name in draw.sample("abcd", draw.choice([0, 0, 1, 2])):
+        pieces.append((name, drawn_kind(draw, depth - 1)))
+    draw.shuffle(pieces)
+    return Record(pieces, unwritten=unwritten)
+
+
+def drawn_kind(draw, depth=2):
+    """Some kind, at most so deep."""
+    plain = [lambda: drawn_number(draw), lambda: drawn_choice(draw), lambda: drawn_text(draw), lambda: drawn_sizes(draw),
+             lambda: Only(draw.randint(-3, 3), draw.choice(["1", "ab", " "])), lambda: Named("a")]
+    if depth <= 0 or draw.random() < 0.3:
+        return draw.choice(plain)()
+    which = draw.choice(["record", "listing", "cases", "padded"])
+    if which == "record":
+        return drawn_record(draw, depth)
+    if which == "listing":
+        least = draw.choice([0, 0, 1, 2])
+        return Listing(drawn_kind(draw, depth - 1), draw.choice([",", "1", ", ", "a", "-"]), least=least,
+                       most=draw.choice([None, least, least + 2]))
+    if which == "cases":
+        tags = draw.sample(["a", "b", "keep", "num"], draw.randint(1, 3))
+        return Cases([(tag, drawn_kind(draw, depth - 1)) for tag in tags])
+    return Padded(drawn_kind(draw, depth - 1), draw.choice([0, 1, 3, 4, 5]), fill=draw.choice(" 01-a,"),
+                  side=draw.choice(SIDES))

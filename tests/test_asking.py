@@ -9,8 +9,7 @@ from formatwords.errors import TooFar, Unclear
 from formatwords.kinds import Cases, Choice, Listing, Named, Number, Only, Padded, Record, Sizes, Text
 from formatwords.machines import Machine, runs
 from formatwords.words import Word
-from tests.helper import is_apart_paper, is_clear_paper, refusal, signature_of
-from tests.kindhelper import WIDTH, drawn_kind, short_things
+from tests.helper import WIDTH, drawn_kind, is_apart_paper, is_clear_paper, refusal, short_things, signature_of
 
 NUMBER = Number(Word())
 GREAT = 10 ** 59 + 31415926535897932384

@@ -9,9 +9,8 @@ from formatwords.kindmachines import machine_of
 from formatwords.kinds import Cases, Choice, Listing, Named, Number, Only, Padded, Record, Sizes, Text
 from formatwords.machines import Machine, runs
 from formatwords.words import Word
-from tests.helper import signature_of, texts_of
-from tests.kindhelper import SIDES, SIGNS, WIDTH, counts_of, drawn_choice, drawn_kind, drawn_number, drawn_record
-from tests.kindhelper import drawn_sizes, drawn_text, number_of_word, numbers_with, short_things
+from tests.helper import SIDES, SIGNS, WIDTH, counts_of, drawn_choice, drawn_kind, drawn_number, drawn_record
+from tests.helper import drawn_sizes, drawn_text, number_of_word, numbers_with, short_things, signature_of, texts_of
 
 NUMBER = Number(Word())
 GREAT = 10 ** 59 + 12345678901234567890

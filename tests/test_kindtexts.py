@@ -9,8 +9,7 @@ from formatwords.kinds import Cases, Choice, Listing, Named, Number, Only, Padde
 from formatwords.kindtexts import kind_text, read_kind
 from formatwords.words import Word
 from formatwords.wordtexts import read_word
-from tests.helper import THINGS, refusal, signature_of
-from tests.kindhelper import WIDTH, drawn_kind
+from tests.helper import THINGS, WIDTH, drawn_kind, refusal, signature_of
 
 NUMBER = Number(Word())
 PLAIN = '( number "w . . . . " " )'

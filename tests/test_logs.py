@@ -9,8 +9,7 @@ from formatwords.kinds import Cases, Listing, Named, Number, Only, Record, Text
 from formatwords.kindtexts import kind_text
 from formatwords.logs import book_text, read_book
 from formatwords.words import Word
-from tests.helper import THINGS, refusal, signature_of
-from tests.kindhelper import drawn_kind
+from tests.helper import THINGS, drawn_kind, refusal, signature_of
 
 NUMBER = Number(Word())
 LETTERS = Text("abc", least=1)

@@ -7,8 +7,7 @@ from formatwords.errors import NoRow, NoThing, Unclear
 from formatwords.kinds import Cases, Choice, Listing, Named, Number, Only, Padded, Record, Sizes, Text
 from formatwords.reading import fault, read, read_one, turned
 from formatwords.words import Word
-from tests.helper import refusal, signature_of, texts_of
-from tests.kindhelper import SIDES, WIDTH, drawn_kind, number_of_word, short_things
+from tests.helper import SIDES, WIDTH, drawn_kind, number_of_word, refusal, short_things, signature_of, texts_of
 
 NUMBER = Number(Word())
 GREAT = 10 ** 59 + 98765432109876543210
