@@ -8,7 +8,11 @@ from formatwords.reading import read, read_one
 
 def kind_clear(kind):
     """("alike", the least row of two things, both); else ("clear", a Machine, a paper that shows it)."""
-    machine = machine_of(kind)
+    return clear_by(kind, machine_of(kind))
+
+
+def clear_by(kind, machine):
+    """The same of a kind whose Machine is made already."""
     word, told = clear(machine)
     if word == "alike":
         one, two = read(kind, told)
@@ -18,7 +22,11 @@ def kind_clear(kind):
 
 def kinds_apart(one, other):
     """("met", the least row that both write, a thing of each); else ("apart", two Machines, a paper that shows it)."""
-    machine, second = machine_of(one), machine_of(other)
+    return apart_by(one, other, machine_of(one), machine_of(other))
+
+
+def apart_by(one, other, machine, second):
+    """The same of kinds whose Machines are made already."""
     word, told = apart(machine, second)
     if word == "met":
         return word, told, read(one, told)[0], read(other, told)[0]

@@ -1,8 +1,9 @@
 """A book: kinds by names through every change, and a log of what was written by them."""
 
-from formatwords.asking import kind_clear, kinds_apart
+from formatwords.asking import apart_by, clear_by
 from formatwords.deeds import is_deed, shelf_after
 from formatwords.errors import NoDeed, NoName, TooFar, Unkept
+from formatwords.kindmachines import machine_of
 from formatwords.kindtexts import kind_text
 from formatwords.plain import copied, is_within
 from formatwords.shelves import Shelf, whole_kinds
@@ -13,33 +14,39 @@ class Decisions:
 
     def __init__(self):
         self.known = {}
+        self.machines = {}
 
-    def alike(self, kind):
-        """The least row of two things of a kind, and both; None where it is clear."""
-        key = (kind_text(kind), "")
-        if key not in self.known:
-            told = kind_clear(kind)
-            self.known[key] = told[1:] if told[0] == "alike" else None
-        return self.known[key]
+    def machine(self, kind, text):
+        """The Machine of the kind with this text."""
+        if text not in self.machines:
+            self.machines[text] = machine_of(kind)
+        return self.machines[text]
 
-    def met(self, one, other):
-        """The least row that two kinds both write, and a thing of each; None where they are apart."""
-        key = (kind_text(one), kind_text(other))
-        if key not in self.known:
-            told = kinds_apart(one, other)
-            self.known[key] = told[1:] if told[0] == "met" else None
-        return self.known[key]
+    def alike(self, kind, text):
+        """The least row of two things of the kind with this text, and both; None where it is clear."""
+        if text not in self.known:
+            told = clear_by(kind, self.machine(kind, text))
+            self.known[text] = told[1:] if told[0] == "alike" else None
+        return self.known[text]
+
+    def met(self, one, other, texts):
+        """The least row that the kinds with these texts both write, and a thing of each; None where they are apart."""
+        if texts not in self.known:
+            told = apart_by(one, other, self.machine(one, texts[0]), self.machine(other, texts[1]))
+            self.known[texts] = told[1:] if told[0] == "met" else None
+        return self.known[texts]
 
     def require_kept(self, shelf):
         """Unkept of the first that is kept clear and isn't, then of the first two that are kept apart and aren't."""
         names = list(shelf.clears) + [name for pair in shelf.pairs for name in pair]
         whole = whole_kinds(shelf.kinds, names)
+        texts = {name: kind_text(whole[name]) for name in whole}
         for name in sorted(shelf.clears):
-            found = self.alike(whole[name])
+            found = self.alike(whole[name], texts[name])
             if found is not None:
                 raise Unkept(name, None, found[0], found[1], found[2])
         for name, other in sorted(shelf.pairs):
-            found = self.met(whole[name], whole[other])
+            found = self.met(whole[name], whole[other], (texts[name], texts[other]))
             if found is not None:
                 raise Unkept(name, other, found[0], found[1], found[2])
 
